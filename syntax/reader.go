@@ -1,6 +1,10 @@
 package syntax
 
-import "pegtable/api"
+import (
+	"strings"
+
+	"pegtable/api"
+)
 
 // none is what stands behind the last byte of a text: no byte.
 const none = -1
@@ -10,6 +14,7 @@ type reader struct {
 	text      string
 	at        int
 	terminals int
+	brackets  int
 	open      int
 	mentions  []mention
 }
@@ -59,6 +64,7 @@ func (r *reader) grammar() (*Grammar, bool) {
 		}
 		g.Rules = append(g.Rules, rule)
 		if r.next() == none {
+			g.Brackets = r.brackets
 			return g, true
 		}
 	}
@@ -75,7 +81,8 @@ func (r *reader) rule() (Rule, bool) {
 	if !ok || !r.takeSign('\n') {
 		return Rule{}, false
 	}
-	return Rule{Name: name, At: at, Choice: choice}, true
+	// The name is a piece of the text, and the grammar outlives it.
+	return Rule{Name: strings.Clone(name), At: at, Choice: choice}, true
 }
 
 func (r *reader) choice() (*Part, bool) {
@@ -168,6 +175,8 @@ func (r *reader) bracket() (*Part, bool) {
 		return nil, false
 	}
 	r.open--
+	choice.Bracket = r.brackets
+	r.brackets++
 	return choice, true
 }
 

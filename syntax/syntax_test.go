@@ -15,7 +15,7 @@ func TestReadGivesTheTree(t *testing.T) {
 	literal := &Part{Kind: Literal, Terminal: 0, Text: "x\n"}
 	class := &Part{Kind: Class, Terminal: 1, Ranges: []Range{{'a', 'c'}, {']', ']'}}}
 	bracket := partOf(Choice, partOf(Sequence, &Part{Kind: Any, Terminal: 2}), partOf(Sequence, &Part{Kind: Literal, Terminal: 3}))
-	want := &Grammar{Rules: []Rule{
+	want := &Grammar{Brackets: 1, Rules: []Rule{
 		{"a", 0, partOf(Choice,
 			partOf(Sequence, literal, partOf(Optional, &Part{Kind: Name, Rule: 1})),
 			partOf(Sequence, partOf(And, partOf(Star, class)), partOf(Not, bracket)))},
@@ -23,6 +23,29 @@ func TestReadGivesTheTree(t *testing.T) {
 	}}
 	if !reflect.DeepEqual(g, want) {
 		t.Errorf("the tree of a grammar is another")
+	}
+}
+
+func TestReadNumbersTheBrackets(t *testing.T) {
+	g, errno, _ := Read("a=(.(.))(b)\nb=((.))\n")
+	if errno != api.OK {
+		t.Fatalf("Read: %d", errno)
+	}
+	seen := make([]int, g.Brackets)
+	var count func(p *Part)
+	count = func(p *Part) {
+		for _, inner := range p.Parts {
+			if inner.Kind == Choice {
+				seen[inner.Bracket]++
+			}
+			count(inner)
+		}
+	}
+	for _, rule := range g.Rules {
+		count(rule.Choice)
+	}
+	if want := []int{1, 1, 1, 1, 1}; !reflect.DeepEqual(seen, want) {
+		t.Errorf("brackets by their numbers: %v, want %v", seen, want)
 	}
 }
 

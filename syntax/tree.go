@@ -9,7 +9,7 @@ const (
 	Literal              // Terminal, Text
 	Class                // Terminal, Ranges
 	Any                  // Terminal
-	Choice               // Parts: the ways, in order
+	Choice               // Parts: the ways, in order; Bracket, but for a rule's own
 	Sequence             // Parts: the items, in order
 	Optional             // Parts: the one that may be missing
 	Star                 // Parts: the one that is repeated
@@ -23,11 +23,12 @@ type Range struct {
 	First, Last byte
 }
 
-// Part is a part of a rule's choice. A bracket is the choice in it.
+// Part is a part of a rule's choice. A bracket is the choice in it. Terminals and brackets have numbers of their own, from 0 on.
 type Part struct {
 	Kind     Kind
 	Rule     int
 	Terminal int
+	Bracket  int
 	Text     string
 	Ranges   []Range
 	Parts    []*Part
@@ -40,9 +41,10 @@ type Rule struct {
 	Choice *Part
 }
 
-// Grammar is what a text means that is a grammar.
+// Grammar is what a text means that is a grammar. It keeps nothing of the text.
 type Grammar struct {
-	Rules []Rule
+	Rules    []Rule
+	Brackets int
 }
 
 func partOf(kind Kind, parts ...*Part) *Part {
