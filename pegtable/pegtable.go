@@ -48,19 +48,22 @@ func Open(grammar string, c api.Config) (*Parser, api.Errno) {
 // Parse parses an input (P6, P7).
 func (p *Parser) Parse(input string) (api.Answer, api.Errno) {
 	p.stats = api.Stats{}
-	if len(input) > api.MaxInput {
+	if isLong(input) {
 		return api.Answer{}, api.ErrLong
 	}
-	answer, runs, ok := walk.Walk(p.grammar, input, p.config.Runs)
+	ground := walk.NewGround(p.grammar, p.config)
+	answer, runs, ok := ground.Walk(0, input)
 	if !ok {
 		return api.Answer{}, api.ErrSpent
 	}
+	p.stats = ground.MemoryStats()
 	p.stats.Runs = runs
 	return answer, api.OK
 }
 
+func isLong(input string) bool {
+	return len(input) > api.MaxInput
+}
+
 // Stats tells of the last input (P8).
 func (p *Parser) Stats() api.Stats { return p.stats }
-
-// Many parses inputs beside one another (P9).
-func (p *Parser) Many(inputs ...string) ([]api.Answer, api.Errno) { return nil, api.OK }

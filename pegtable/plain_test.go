@@ -1,6 +1,7 @@
 package pegtable_test
 
 import (
+	"fmt"
 	"math/rand"
 	"slices"
 	"strings"
@@ -110,6 +111,7 @@ type plainWalk struct {
 	runs     int
 	steps    int
 	failures []failure
+	memories []*pretended
 }
 
 type failure struct {
@@ -180,7 +182,13 @@ func (w *plainWalk) row(f found, depth int, items []*piece) found {
 
 func (w *plainWalk) run(rule, place, depth int) found {
 	w.runs++
+	for _, m := range w.memories {
+		m.begin(entry{rule, place})
+	}
 	f := w.try(w.rules[rule], place, depth+1)
+	for _, m := range w.memories {
+		m.end(entry{rule, place})
+	}
 	node := api.Node{Rule: rule, From: place, To: f.to, Depth: depth}
 	f.nodes = slices.Concat([]api.Node{node}, f.nodes)
 	return f
@@ -243,28 +251,30 @@ func madeUp(random *rand.Rand) ([]*piece, string) {
 
 func TestParseIsAsTheWordsTell(t *testing.T) {
 	random := rand.New(rand.NewSource(1))
-	ended, spent := 0, 0
+	ended, spent, hits := 0, 0, 0
 	for range 4000 {
 		pieces, grammar := madeUp(random)
 		for range 4 {
 			input := madeUpInput(random)
-			w := plainWalk{rules: pieces, input: input}
+			w := plainWalk{rules: pieces, input: input, memories: madeUpMemories(random, len(pieces)*(len(input)+1))}
 			want, ok := w.answer()
 			switch {
 			case ok && w.runs <= api.MaxRuns:
 				ended++
-				holdAsPlain(t, grammar, input, w.runs, want)
+				hits += holdAsPlain(t, grammar, &w, want)
 			case w.runs > api.MaxRuns:
 				spent++
-				holdSpent(t, open(t, grammar, api.MaxRuns), input)
+				for _, c := range memories(api.MaxRuns) {
+					holdSpent(t, openBy(t, grammar, c), input)
+				}
 			}
 			if t.Failed() {
 				t.Fatalf("by %q", grammar)
 			}
 		}
 	}
-	if ended < 10000 || spent < 100 {
-		t.Errorf("the tests make up too few: %d that end, %d of too many runs", ended, spent)
+	if ended < 10000 || spent < 100 || hits < 10000 {
+		t.Errorf("the tests make up too few: %d that end, %d of too many runs, %d hits", ended, spent, hits)
 	}
 }
 
@@ -276,17 +286,24 @@ func madeUpInput(random *rand.Rand) string {
 	return string(input)
 }
 
-func holdAsPlain(t *testing.T, grammar, input string, runs int, want api.Answer) {
+// holdAsPlain holds a parser without memory and those with one against a plain walk that ended, and gives how many hits there were.
+func holdAsPlain(t *testing.T, grammar string, w *plainWalk, want api.Answer) int {
 	t.Helper()
-	p := open(t, grammar, runs)
-	holdParse(t, "P6", p, input, tell(want))
-	if got, want := p.Stats(), (api.Stats{Runs: runs}); got != want {
-		t.Errorf("P7, P8: %q: Stats = %+v, want %+v", input, got, want)
+	hits := 0
+	without := &pretended{stats: api.Stats{Runs: w.runs}}
+	for _, m := range append(w.memories, without) {
+		c := m.config
+		c.Runs = w.runs
+		p := openBy(t, grammar, c)
+		holdParse(t, fmt.Sprintf("P6, P7: with %+v", c), p, w.input, tell(want))
+		if got := p.Stats(); c.Policy != api.Direct && got != m.stats {
+			t.Errorf("P7, P8: %q with %+v: Stats = %+v, want %+v", w.input, c, got, m.stats)
+		}
+		holdBounds(t, p.Stats(), bounds{c, len(w.rules), len(w.input), w.runs})
+		hits += p.Stats().Hits
+		if c.Runs--; c.Runs > 0 {
+			holdSpent(t, openBy(t, grammar, c), w.input)
+		}
 	}
-	if runs > 1 {
-		holdSpent(t, open(t, grammar, runs-1), input)
-	}
-	for _, c := range memories(runs) {
-		holdParse(t, "P6, P7", openBy(t, grammar, c), input, tell(want))
-	}
+	return hits
 }

@@ -14,9 +14,9 @@ func (w *walker) bracket(part *syntax.Part, at int) int {
 	if found.known {
 		return found.to
 	}
-	runs := w.runs
+	counted := w.counted
 	to := w.choice(at, part.Parts...)
-	if w.runs == runs {
+	if w.counted == counted {
 		*found = outcome{known: true, to: to}
 	}
 	return to

@@ -1,75 +1,82 @@
-// Package walk goes through an input by a grammar: it tells what matches, the tree of that, what failed farthest, and how many runs of rules there were.
+// Package walk goes through inputs by a grammar: it tells what matches, the tree of that, what failed farthest, and how many runs of rules there were.
 package walk
 
 import (
 	"pegtable/api"
+	"pegtable/memory"
 	"pegtable/syntax"
 )
 
 // fails is what stands instead of a place up to where a part matches that doesn't.
 const fails = -1
 
+// Ground is what walks through several inputs have in common.
+type Ground struct {
+	grammar *syntax.Grammar
+	most    int
+	memory  *memory.Memory[*result]
+}
+
+// NewGround gives a ground with an empty memory.
+func NewGround(g *syntax.Grammar, c api.Config) *Ground {
+	return &Ground{grammar: g, most: c.Runs, memory: memory.New[*result](c, len(g.Rules))}
+}
+
+// MemoryStats tells of the memory alone: without runs.
+func (g *Ground) MemoryStats() api.Stats {
+	return g.memory.Stats()
+}
+
 // walker is one walk through one input. Its methods answer up to where a part matches at a place, or fails.
 type walker struct {
-	grammar *syntax.Grammar
+	*Ground
+	number  int
 	input   string
-	most    int
-	runs    int
-	depth   int
-	tree    []api.Node
+	counted int // runs as without memory
+	done    int // runs in truth
+	matched []*result
 	far     farthest
 	known   []outcome
 }
 
-// Walk gives the answer for the first rule at the place 0, and the number of runs; or false, if there are more than most runs.
-func Walk(g *syntax.Grammar, input string, most int) (api.Answer, int, bool) {
+// Walk gives the answer for the first rule at the place 0, and the number of runs that were done; or false, if more runs count than may be. Inputs that are walked through over one ground have numbers of their own.
+func (g *Ground) Walk(number int, input string) (api.Answer, int, bool) {
 	w := walker{
-		grammar: g,
-		input:   input,
-		most:    most,
-		far:     farthest{place: nowhere},
-		known:   make([]outcome, g.Brackets*(len(input)+1)),
+		Ground: g,
+		number: number,
+		input:  input,
+		far:    farthest{place: nowhere},
+		known:  make([]outcome, g.grammar.Brackets*(len(input)+1)),
 	}
-	to := w.run(0, 0)
+	w.run(0, 0)
 	if w.spent() {
 		return api.Answer{}, 0, false
 	}
-	return w.answer(to), w.runs, true
+	return w.answer(w.matched[0]), w.done, true
 }
 
 func (w *walker) spent() bool {
-	return w.runs > w.most
+	return w.counted > w.most
 }
 
-func (w *walker) answer(to int) api.Answer {
+func (w *walker) answer(first *result) api.Answer {
 	answer := api.Answer{Far: w.far.place, Failed: w.far.numbers()}
-	if to != fails {
-		answer.Matches, answer.To, answer.Tree = true, to, w.tree
+	if first.to != fails {
+		answer.Matches, answer.To, answer.Tree = true, first.to, first.addTo(nil, 0)
 	}
 	return answer
 }
 
-func (w *walker) run(rule, at int) int {
-	w.runs++
-	node := len(w.tree)
-	w.tree = append(w.tree, api.Node{Rule: rule, From: at, Depth: w.depth})
-	w.depth++
-	to := w.choice(at, w.grammar.Rules[rule].Choice.Parts...)
-	w.depth--
-	w.tree[node].To = to
-	return to
-}
-
-// match takes care that a part that fails leaves nothing in the tree.
+// match takes care that a part that fails leaves nothing in what is matched.
 func (w *walker) match(part *syntax.Part, at int) int {
 	// When too many runs are done nothing counts any more: all that is under way comes to its end at once.
 	if w.spent() {
 		return fails
 	}
-	before := len(w.tree)
+	before := len(w.matched)
 	to := w.matchKind(part, at)
 	if to == fails {
-		w.tree = w.tree[:before]
+		w.matched = w.matched[:before]
 	}
 	return to
 }
@@ -140,11 +147,11 @@ func (w *walker) plus(part *syntax.Part, at int) int {
 	return w.star(part, to)
 }
 
-// look matches the empty stretch, if it is as wanted whether the part matches. What the part has put into the tree is no part of the match.
+// look matches the empty stretch, if it is as wanted whether the part matches. What is matched in the part is no part of the match.
 func (w *walker) look(part *syntax.Part, at int, wanted bool) int {
-	before := len(w.tree)
+	before := len(w.matched)
 	matches := w.match(part, at) != fails
-	w.tree = w.tree[:before]
+	w.matched = w.matched[:before]
 	if matches != wanted {
 		return fails
 	}
